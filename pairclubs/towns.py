@@ -1,6 +1,6 @@
 """Towns: a number of people, and the clubs that they are in."""
 
-from pairclubs.errors import BadPerson, BadTown
+from pairclubs.errors import BadClub, BadPerson, BadTown
 
 FEWEST_PEOPLE = 3
 MOST_PEOPLE = 31
@@ -65,6 +65,12 @@ def check_person(value, people):
     """Raise BadPerson for a value that is none of so many people."""
     if not is_person(value, people):
         raise BadPerson()
+
+
+def check_club(value, people):
+    """Raise BadClub for a value that is no club of so many people."""
+    if not is_club(value, people):
+        raise BadClub()
 
 
 def clubs_with(clubs, person):

@@ -27,6 +27,12 @@ INTERFACE = {
         "together": ["town", "one", "other"],
     },
     "pairs.py": {"is_pair_town": ["town"], "missing": ["town"], "doubled": ["town"]},
+    "kinds.py": {"surplus": ["town"], "kinds": ["town"], "close": ["town"]},
+    "finishes.py": {
+        "can_add": ["town", "club"], "finished": ["town"], "least_finished": ["town"],
+        "shows_least_finished": ["town", "value"],
+    },
+    "shares.py": {"shares": ["town"], "is_evenly_shared": ["town"], "turned": ["town"]},
 }
 
 
