@@ -1,6 +1,6 @@
 """Towns: a number of people, and the clubs that they are in."""
 
-from pairclubs.errors import BadClub, BadPerson, BadTown
+from pairclubs.errors import BadClub, BadNumber, BadPerson, BadTown
 
 FEWEST_PEOPLE = 3
 MOST_PEOPLE = 31
@@ -10,6 +10,12 @@ def is_integer_from(value, low, high):
     """Tell whether a value is an integer from low to high."""
     # For Python True and False are integers; for the package they are none.
     return isinstance(value, int) and not isinstance(value, bool) and low <= value <= high
+
+
+def check_number(value, low, high):
+    """Raise BadNumber for a value that is no integer from low to high."""
+    if not is_integer_from(value, low, high):
+        raise BadNumber()
 
 
 def is_ascending(values):

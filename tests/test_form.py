@@ -33,7 +33,15 @@ INTERFACE = {
         "shows_least_finished": ["town", "value"],
     },
     "shares.py": {"shares": ["town"], "is_evenly_shared": ["town"], "turned": ["town"]},
+    "lists.py": {"pair_towns": ["people"], "counts_by_clubs": ["people"]},
+    "planes.py": {"pencil": ["people"], "plane": ["prime"]},
+    "foundings.py": {"Founding": None},
+    "towntexts.py": {"write_town": ["town"], "read_town": ["text"]},
 }
+
+# Each method of the interface's class with its parameters, and its properties.
+METHODS = {"__init__": ["self", "people"], "add": ["self", "club"], "undo": ["self"], "missing": ["self"]}
+PROPERTIES = ["added", "town"]
 
 
 def parameters(node):
@@ -58,6 +66,14 @@ class InterfaceTests(unittest.TestCase):
                 with self.subTest(file=name, name=wanted):
                     self.assertIn(wanted, defined)
                     self.assertEqual(defined[wanted], arguments)
+
+    def test_methods_are_defined_in_their_class(self):
+        classes = [node for node in tree_of(FOLDER / "foundings.py").body if isinstance(node, ast.ClassDef)]
+        self.assertEqual([node.name for node in classes], ["Founding"])
+        functions = [node for node in classes[0].body if isinstance(node, ast.FunctionDef)]
+        decorated = {node.name: [ast.unparse(word) for word in node.decorator_list] for node in functions}
+        self.assertEqual({node.name: parameters(node) for node in functions if not decorated[node.name]}, METHODS)
+        self.assertEqual(sorted(name for name in decorated if decorated[name] == ["property"]), PROPERTIES)
 
 
 class FormTests(unittest.TestCase):

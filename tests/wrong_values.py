@@ -59,3 +59,14 @@ WRONG_CLUBS_OF_FIVE = [
     (0, None), (None, 1), (0, "1"), ("0", "1"), (0, (1,)), ((0, 1),), ((0, 1), (0, 2)), (0, [1]), ([0], [1]),
     (0, {1: 1}), ({}, {}), [], [0, 1], [[0, 1]], {}, {0: 1}, {0: 0, 1: 1},
 ]
+
+# Values that are no integers, among them such as hold one or look like one.
+NO_INTEGERS = [
+    True, False, None, "", "3", "5", "a", (), (3,), (3, ()), (5, 5), [], [3], [2, 3, 5], {}, {3: 3}, {"people": 5},
+]
+
+# Values that are no strings, among them such as hold one.
+NO_STRINGS = [
+    0, 3, -1, 10 ** 30, True, False, None, (), ("people 3",), ("people 3", "club 0 1"), (3, ()), [], ["people 3"],
+    {}, {"people": 3}, {"people 3": "club 0 1"},
+]
